@@ -1,0 +1,205 @@
+"""The form of the package's files: what of ../shared/LANGUAGE.md can be seen without much ado."""
+
+import ast
+import builtins
+import pathlib
+import re
+import unittest
+
+PACKAGE = pathlib.Path(__file__).resolve().parent.parent / "trustways"
+
+OWN_NAMES = """len range enumerate zip min max sum abs sorted reversed int str bool list tuple dict set frozenset
+isinstance ord repr any all divmod Exception ValueError TypeError KeyError IndexError LookupError ZeroDivisionError
+ArithmeticError OverflowError RuntimeError NotImplementedError AttributeError StopIteration""".split()
+
+METHODS = """append clear copy count endswith extend find get index insert isalnum isalpha isdigit islower isspace
+isupper items join keys ljust lower lstrip partition pop remove replace reverse rfind rjust rpartition rsplit rstrip
+setdefault split splitlines startswith strip update upper values zfill bit_length""".split()
+
+BARRED_WORDS = """type typing typing_extensions enum Enum IntEnum StrEnum Flag IntFlag Generic Protocol ABC ABCMeta
+namedtuple NamedTuple TypedDict TYPE_CHECKING abstractmethod""".split()
+
+BARRED_NAMES = """register mro elements open input version_info with_traceback add_note attrgetter breakpoint builtins
+compile copyright credits delattr dir eval exec exit gc getattr globals hasattr help id importlib license locals
+methodcaller os quit setattr super vars sys print chr format format_map""".split()
+
+DUNDERS = ["__init__", "__eq__", "__repr__", "__str__", "__len__"]
+
+NODES = """Module FunctionDef ClassDef arguments arg Return Assign AugAssign For While If Raise Try ExceptHandler
+ImportFrom alias Expr Pass Break Continue BoolOp And Or BinOp UnaryOp Not USub Lambda IfExp Dict Set ListComp
+comprehension Compare Call keyword JoinedStr FormattedValue Constant Attribute Subscript Slice Name List Tuple Load
+Store Add Sub Mult FloorDiv Mod Pow LShift RShift BitOr BitXor BitAnd Invert Eq NotEq Lt LtE Gt GtE Is IsNot In
+NotIn""".split()
+
+
+def files():
+    return sorted(path for path in PACKAGE.rglob("*") if path.is_file() and "__pycache__" not in path.parts)
+
+
+def tree(path):
+    return ast.parse(path.read_text(encoding="utf-8"))
+
+
+def nodes(kind):
+    """Each node of a kind in the package, with the place where it stands."""
+    for path in files():
+        for node in ast.walk(tree(path)):
+            if isinstance(node, kind):
+                yield f"{path.name}:{getattr(node, 'lineno', 0)}", node
+
+
+def bound(module):
+    """All names that a file gives a meaning, at its top or within its defs."""
+    told = set()
+    for node in ast.walk(module):
+        if isinstance(node, (ast.FunctionDef, ast.ClassDef)):
+            told.add(node.name)
+        if isinstance(node, ast.arg):
+            told.add(node.arg)
+        if isinstance(node, ast.Name) and isinstance(node.ctx, ast.Store):
+            told.add(node.id)
+        if isinstance(node, ast.alias):
+            told.add(node.asname or node.name)
+        if isinstance(node, ast.ExceptHandler) and node.name:
+            told.add(node.name)
+    return told
+
+
+def drawn_from(path):
+    return [node.module for node in tree(path).body if isinstance(node, ast.ImportFrom)]
+
+
+class Files(unittest.TestCase):
+    def test_plain_files_with_an_init(self):
+        self.assertIn(PACKAGE / "__init__.py", files())
+        for path in files():
+            self.assertRegex(path.name, r"^(__init__|[a-z][a-z0-9_]*)\.py$")
+            self.assertEqual(path.parent, PACKAGE)
+
+    def test_signs_and_sizes(self):
+        for path in files():
+            text = path.read_bytes().decode("ascii")
+            self.assertTrue(all(sign == "\n" or " " <= sign <= "~" for sign in text), path.name)
+            rows = text.split("\n")
+            self.assertLessEqual(len(rows), 400, path.name)
+            self.assertLessEqual(max(len(row) for row in rows), 120, path.name)
+
+    def test_barred_words(self):
+        for path in files():
+            text = path.read_text(encoding="utf-8")
+            for word in BARRED_WORDS:
+                self.assertIsNone(re.search(rf"\b{word}\b", text), f"{path.name}: {word}")
+            for part in ["dataclass", "overload", "contextmanager"]:
+                self.assertNotIn(part, text, path.name)
+
+
+class Imports(unittest.TestCase):
+    def test_only_own_names_from_the_file_that_defines_them(self):
+        for place, node in nodes(ast.ImportFrom):
+            self.assertEqual(node.level, 0, place)
+            self.assertRegex(node.module, r"^trustways\.[a-z0-9_]+$", place)
+            source = tree(PACKAGE / (node.module.split(".")[1] + ".py"))
+            defined = [part.name for part in source.body if isinstance(part, (ast.FunctionDef, ast.ClassDef))]
+            for part in source.body:
+                if isinstance(part, ast.Assign):
+                    defined.append(part.targets[0].id)
+            for alias in node.names:
+                self.assertIn(alias.name, defined, place)
+
+    def test_no_two_files_draw_from_one_another(self):
+        left = {f"trustways.{path.stem}": drawn_from(path) for path in files()}
+        while left:
+            free = [name for name in left if not any(other in left for other in left[name])]
+            self.assertTrue(free, left)
+            left = {name: left[name] for name in left if name not in free}
+
+
+class Code(unittest.TestCase):
+    def test_kinds_of_nodes(self):
+        for place, node in nodes(ast.AST):
+            self.assertIn(type(node).__name__, NODES, place)
+
+    def test_top_of_a_file(self):
+        for path in files():
+            body = tree(path).body
+            self.assertIsInstance(ast.get_docstring(tree(path)), str, path.name)
+            names = []
+            for node in body[1:]:
+                self.assertIsInstance(node, (ast.ImportFrom, ast.FunctionDef, ast.ClassDef, ast.Assign), path.name)
+                if isinstance(node, ast.Assign):
+                    ast.literal_eval(node.value)
+                    names.append(node.targets[0].id)
+                if isinstance(node, (ast.FunctionDef, ast.ClassDef)):
+                    names.append(node.name)
+            self.assertEqual(len(names), len(set(names)), path.name)
+
+    def test_functions(self):
+        for place, node in nodes(ast.FunctionDef):
+            self.assertLessEqual(node.end_lineno - node.lineno + 1, 40, place)
+            self.assertEqual(node.decorator_list, [], place)
+            given = node.args
+            self.assertFalse(given.vararg or given.kwarg or given.kwonlyargs or given.posonlyargs, place)
+
+    def test_classes(self):
+        for place, node in nodes(ast.ClassDef):
+            self.assertLessEqual(len(node.bases), 1, place)
+            self.assertEqual((node.decorator_list, node.keywords), ([], []), place)
+            for part in node.body:
+                self.assertIsInstance(part, (ast.FunctionDef, ast.Pass), place)
+
+    def test_names(self):
+        for path in files():
+            module = tree(path)
+            own = bound(module)
+            for name in own:
+                self.assertTrue(name in DUNDERS or not name.startswith("_"), f"{path.name}: {name}")
+                self.assertNotIn(name, BARRED_NAMES, path.name)
+            methods = [part.name for node in ast.walk(module) if isinstance(node, ast.ClassDef)
+                       for part in node.body if isinstance(part, ast.FunctionDef)]
+            for name in own:
+                self.assertTrue(name in methods or not hasattr(builtins, name), f"{path.name}: {name}")
+            for node in ast.walk(module):
+                if isinstance(node, ast.Name):
+                    self.assertIn(node.id, list(own) + OWN_NAMES, path.name)
+
+    def test_attributes(self):
+        own = set()
+        for path in files():
+            own |= bound(tree(path))
+        own |= {node.attr for place, node in nodes(ast.Attribute) if isinstance(node.ctx, ast.Store)}
+        for place, node in nodes(ast.Attribute):
+            self.assertIn(node.attr, list(own) + METHODS, place)
+            self.assertNotIn(node.attr, BARRED_NAMES, place)
+
+    def test_statements_and_expressions(self):
+        for place, node in nodes((ast.For, ast.While)):
+            self.assertEqual(node.orelse, [], place)
+        for place, node in nodes(ast.Try):
+            self.assertEqual(node.finalbody, [], place)
+        for place, node in nodes(ast.Assign):
+            self.assertEqual(len(node.targets), 1, place)
+        for place, node in nodes(ast.ListComp):
+            self.assertEqual(len(node.generators), 1, place)
+            self.assertLessEqual(len(node.generators[0].ifs), 1, place)
+        for place, node in nodes(ast.ExceptHandler):
+            self.assertIsNotNone(node.type, place)
+
+    def test_is_stands_beside_none_and_truths_alone(self):
+        for place, node in nodes(ast.Compare):
+            for operator, right in zip(node.ops, node.comparators):
+                if isinstance(operator, (ast.Is, ast.IsNot)):
+                    self.assertTrue(isinstance(right, ast.Constant) and right.value in (None, True, False), place)
+
+    def test_numbers_and_texts(self):
+        for place, node in nodes(ast.Constant):
+            self.assertTrue(node.value is None or isinstance(node.value, (int, str)), place)
+            if isinstance(node.value, str):
+                self.assertNotIn("%", node.value, place)
+        for place, node in nodes(ast.BinOp):
+            if isinstance(node.op, ast.Pow):
+                self.assertIsInstance(node.right, ast.Constant, place)
+                self.assertIn(node.right.value, range(0, 65), place)
+
+
+if __name__ == "__main__":
+    unittest.main()

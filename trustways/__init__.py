@@ -1,0 +1,1 @@
+"""Trustways: houses that trust one another, and payments along chains of promises."""
