@@ -23,6 +23,10 @@ BARRED_NAMES = """register mro elements open input version_info with_traceback a
 compile copyright credits delattr dir eval exec exit gc getattr globals hasattr help id importlib license locals
 methodcaller os quit setattr super vars sys print chr format format_map""".split()
 
+WALKED = ["zip", "enumerate", "reversed", "range", "items", "keys", "values"]
+
+WALKERS = "list tuple dict sorted sum any all enumerate zip min max join".split()
+
 DUNDERS = ["__init__", "__eq__", "__repr__", "__str__", "__len__"]
 
 NODES = """Module FunctionDef ClassDef arguments arg Return Assign AugAssign For While If Raise Try ExceptHandler
@@ -63,6 +67,24 @@ def bound(module):
         if isinstance(node, ast.ExceptHandler) and node.name:
             told.add(node.name)
     return told
+
+
+def held_by(module):
+    """Each node's holder."""
+    return {part: node for node in ast.walk(module) for part in ast.iter_child_nodes(node)}
+
+
+def called(node):
+    """The name of what a call calls, also of a method; None of what is no call of a name."""
+    if not isinstance(node, ast.Call):
+        return None
+    return getattr(node.func, "id", getattr(node.func, "attr", None))
+
+
+def is_walked(node, holder):
+    if isinstance(holder, (ast.For, ast.comprehension)):
+        return holder.iter is node
+    return called(holder) in WALKERS and node in holder.args
 
 
 def drawn_from(path):
@@ -162,6 +184,17 @@ class Code(unittest.TestCase):
                 if isinstance(node, ast.Name):
                     self.assertIn(node.id, list(own) + OWN_NAMES, path.name)
 
+    def test_no_local_is_called_like_a_class_or_an_import_of_its_file(self):
+        for path in files():
+            module = tree(path)
+            taken = [alias.name for node in module.body if isinstance(node, ast.ImportFrom) for alias in node.names]
+            taken += [node.name for node in module.body if isinstance(node, ast.ClassDef)]
+            for node in ast.walk(module):
+                if isinstance(node, ast.arg):
+                    self.assertNotIn(node.arg, taken, path.name)
+                if isinstance(node, ast.Name) and isinstance(node.ctx, ast.Store):
+                    self.assertNotIn(node.id, taken, path.name)
+
     def test_attributes(self):
         own = set()
         for path in files():
@@ -183,6 +216,33 @@ class Code(unittest.TestCase):
             self.assertLessEqual(len(node.generators[0].ifs), 1, place)
         for place, node in nodes(ast.ExceptHandler):
             self.assertIsNotNone(node.type, place)
+
+    def test_what_is_walked_at_once_and_sets(self):
+        for path in files():
+            module = tree(path)
+            held = held_by(module)
+            for node in ast.walk(module):
+                if isinstance(node, (ast.Set, ast.SetComp)):
+                    self.fail(f"{path.name}:{node.lineno}: a set that is written out")
+                if isinstance(node, ast.Call) and called(node) in WALKED:
+                    self.assertTrue(is_walked(node, held[node]), f"{path.name}:{node.lineno}")
+                if isinstance(node, ast.Call) and called(node) in ["set", "frozenset"]:
+                    holder = held[node]
+                    asked = isinstance(holder, ast.Compare) or called(holder) in ["len", "sorted"]
+                    self.assertTrue(asked, f"{path.name}:{node.lineno}")
+
+    def test_keywords_of_pythons_own(self):
+        for place, node in nodes(ast.Call):
+            if called(node) in OWN_NAMES + METHODS:
+                for keyword in node.keywords:
+                    self.assertIn(keyword.arg, ["key", "reverse", "default", "start", "strict"], place)
+
+    def test_errors_that_are_taken_and_raised(self):
+        for place, node in nodes(ast.ExceptHandler):
+            for name in ast.walk(node.type):
+                self.assertNotIn(getattr(name, "id", ""), ["Exception", "TypeError"], place)
+        for place, node in nodes(ast.Raise):
+            self.assertIsInstance(node.exc, ast.Call, place)
 
     def test_is_stands_beside_none_and_truths_alone(self):
         for place, node in nodes(ast.Compare):

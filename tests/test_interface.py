@@ -21,6 +21,27 @@ ARGUMENTS = {
         "standing": ["book", "house"],
         "standings": ["book"],
     },
+    "trustways.chains": {
+        "room_along": ["book", "chain"],
+        "room_round": ["book", "ring"],
+        "sent": ["book", "chain", "amount"],
+        "turned": ["book", "ring", "amount"],
+        "all_sent": ["book", "ways"],
+        "all_turned": ["book", "turns"],
+    },
+    "trustways.roads": {
+        "road": ["book", "starts", "goals", "order"],
+        "reached": ["book", "some"],
+        "rooms_out": ["book", "some"],
+    },
+    "trustways.payments": {
+        "most": ["book", "payer", "taker", "order"],
+        "paid": ["book", "payer", "taker", "amount", "order"],
+    },
+    "trustways.kin": {
+        "are_kin": ["book", "other"],
+        "turns_to": ["book", "other"],
+    },
 }
 
 
@@ -32,6 +53,15 @@ class Interface(unittest.TestCase):
                     call = getattr(importlib.import_module(module), name)
                     self.assertEqual(call.__module__, module)
                     self.assertEqual(list(inspect.signature(call).parameters), arguments)
+
+    def test_an_order_alone_may_be_left_out_and_is_none_then(self):
+        for module, calls in ARGUMENTS.items():
+            for name in calls:
+                call = getattr(importlib.import_module(module), name)
+                for argument, told in inspect.signature(call).parameters.items():
+                    with self.subTest(name=name, argument=argument):
+                        wanted = None if argument == "order" else inspect.Parameter.empty
+                        self.assertIs(told.default, wanted)
 
 
 if __name__ == "__main__":
