@@ -169,6 +169,18 @@ class Code(unittest.TestCase):
             for part in node.body:
                 self.assertIsInstance(part, (ast.FunctionDef, ast.Pass), place)
 
+    def test_no_name_is_a_method_of_one_class_and_a_value_of_another(self):
+        methods = [part.name for place, node in nodes(ast.ClassDef)
+                   for part in node.body if isinstance(part, ast.FunctionDef)]
+        for place, node in nodes(ast.Attribute):
+            if isinstance(node.ctx, ast.Store):
+                self.assertNotIn(node.attr, methods, place)
+
+    def test_what_is_made_gives_nothing_back(self):
+        for place, node in nodes(ast.FunctionDef):
+            if node.name == "__init__":
+                self.assertFalse(any(isinstance(part, ast.Return) for part in ast.walk(node)), place)
+
     def test_names(self):
         for path in files():
             module = tree(path)
@@ -249,6 +261,11 @@ class Code(unittest.TestCase):
             for operator, right in zip(node.ops, node.comparators):
                 if isinstance(operator, (ast.Is, ast.IsNot)):
                     self.assertTrue(isinstance(right, ast.Constant) and right.value in (None, True, False), place)
+
+    def test_texts_with_names_in_them(self):
+        for place, node in nodes(ast.FormattedValue):
+            self.assertIsInstance(node.value, ast.Name, place)
+            self.assertIsNone(node.format_spec, place)
 
     def test_numbers_and_texts(self):
         for place, node in nodes(ast.Constant):

@@ -42,7 +42,59 @@ ARGUMENTS = {
         "are_kin": ["book", "other"],
         "turns_to": ["book", "other"],
     },
+    "trustways.wishes": {
+        "lines_out": ["book", "some"],
+        "met": ["book", "wish"],
+    },
+    "trustways.spreads": {
+        "highest": ["book", "one", "other"],
+        "lowest": ["book", "one", "other"],
+        "lined_anew": ["book", "one", "other", "line"],
+    },
+    "trustways.leaving": {
+        "freed": ["book", "house"],
+        "gone": ["book", "house"],
+    },
+    "trustways.deeds": {
+        "Deed": [],
+        "Join": ["house"],
+        "Trust": ["one", "other", "line"],
+        "Pay": ["payer", "taker", "amount"],
+        "Turn": ["ring", "amount"],
+        "Leave": ["house"],
+    },
 }
+
+# The methods of each class that has some, with their arguments behind the object itself.
+METHODS = {
+    "trustways.deeds": {
+        "Deed": {"acted": ["book", "order"], "row": []},
+        "Join": {"acted": ["book", "order"], "row": []},
+        "Trust": {"acted": ["book", "order"], "row": []},
+        "Pay": {"acted": ["book", "order"], "row": []},
+        "Turn": {"acted": ["book", "order"], "row": []},
+        "Leave": {"acted": ["book", "order"], "row": []},
+    },
+}
+
+
+def parameters(call):
+    return inspect.signature(call).parameters
+
+
+def all_methods():
+    for module, classes in METHODS.items():
+        for name, methods in classes.items():
+            for method, arguments in methods.items():
+                yield getattr(getattr(importlib.import_module(module), name), method), arguments
+
+
+def all_calls():
+    for module, calls in ARGUMENTS.items():
+        for name in calls:
+            yield getattr(importlib.import_module(module), name)
+    for method, arguments in all_methods():
+        yield method
 
 
 class Interface(unittest.TestCase):
@@ -52,16 +104,19 @@ class Interface(unittest.TestCase):
                 with self.subTest(module=module, name=name):
                     call = getattr(importlib.import_module(module), name)
                     self.assertEqual(call.__module__, module)
-                    self.assertEqual(list(inspect.signature(call).parameters), arguments)
+                    self.assertEqual(list(parameters(call)), arguments)
+
+    def test_arguments_of_methods(self):
+        for method, arguments in all_methods():
+            with self.subTest(method=method.__qualname__):
+                self.assertEqual(list(parameters(method))[1:], arguments)
 
     def test_an_order_alone_may_be_left_out_and_is_none_then(self):
-        for module, calls in ARGUMENTS.items():
-            for name in calls:
-                call = getattr(importlib.import_module(module), name)
-                for argument, told in inspect.signature(call).parameters.items():
-                    with self.subTest(name=name, argument=argument):
-                        wanted = None if argument == "order" else inspect.Parameter.empty
-                        self.assertIs(told.default, wanted)
+        for call in all_calls():
+            for argument, told in parameters(call).items():
+                with self.subTest(call=call.__qualname__, argument=argument):
+                    wanted = None if argument == "order" else inspect.Parameter.empty
+                    self.assertIs(told.default, wanted)
 
 
 if __name__ == "__main__":

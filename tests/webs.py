@@ -1,10 +1,11 @@
 """Books for the tests, made by the functions alone, and plain reckonings to hold the program against."""
 
 import itertools
+import random
 
 import things
 from trustways.books import Book, joined, lined, no_houses
-from trustways.chains import sent, turned
+from trustways.chains import all_turned, sent, turned
 from trustways.names import is_amount, is_line, is_name
 
 GREAT = 10 ** 59 - 1
@@ -29,6 +30,8 @@ def shuffled(chance, things_to_mix):
 
 def walk(chance, book, least):
     """A chance chain of so many houses or more with room all along; None where it came to no such one."""
+    if len(book.houses) < least:
+        return None
     chain = [chance.choice(book.houses)]
     length = chance.randint(least, len(book.houses))
     while len(chain) < length:
@@ -155,6 +158,76 @@ def standing_of(book, house):
 
 def standings_of(book):
     return {house: standing_of(book, house) for house in book.houses}
+
+
+def lines_from(book, some):
+    """The lines out of some houses, reckoned from the lines that stand in the book."""
+    return sum(line for (one, other), line in book.lines.items() if one in some and other not in some)
+
+
+def debts_in_all_books(book):
+    """What is owed in each book with the same houses and lines, a dict from pairs, each pair one way round."""
+    pairs = list(itertools.combinations(book.houses, 2))
+    spans = []
+    for one, other in pairs:
+        spans.append(range(0 - book.lines.get((other, one), 0), book.lines.get((one, other), 0) + 1))
+    for numbers in itertools.product(*spans):
+        yield dict(zip(pairs, numbers))
+
+
+def count_of_books(book):
+    """How many books there are with the same houses and lines."""
+    count = 1
+    for one, other in itertools.combinations(book.houses, 2):
+        count = count * (book.lines.get((one, other), 0) + book.lines.get((other, one), 0) + 1)
+    return count
+
+
+def standings_by(houses, owed):
+    told = {house: 0 for house in houses}
+    for (one, other), number in owed.items():
+        told[one] += number
+        told[other] -= number
+    return told
+
+
+def debts_in_kin_books(book):
+    wanted = standings_of(book)
+    return [owed for owed in debts_in_all_books(book) if standings_by(book.houses, owed) == wanted]
+
+
+def countable_books(count):
+    """Small books, each of them with few enough others of the same lines that all of these can be walked."""
+    for seed in range(count):
+        chance = random.Random(seed)
+        book = some_book(chance, chance.choice([2, 3, 3, 4, 4, 5]), chance.choice([1, 2, 3]))
+        if count_of_books(book) <= 2000:
+            yield chance, book
+
+
+def check_turns(case, book, turns):
+    """That these are turns of the book; told is the book behind them."""
+    case.assertIs(type(turns), list)
+    for turn in turns:
+        case.assertIs(type(turn), tuple)
+        case.assertEqual([type(part) for part in turn], [list, int])
+    behind = all_turned(book, turns)
+    check_book(case, behind)
+    case.assertEqual((behind.houses, behind.lines), (book.houses, book.lines))
+    case.assertEqual(standings_of(behind), standings_of(book))
+    return behind
+
+
+def check_set(case, book, some):
+    """That these are houses of the book, sorted, each once."""
+    case.assertIs(type(some), list)
+    case.assertEqual(some, sorted(set(some)))
+    case.assertTrue(all(house in book.houses for house in some))
+
+
+def check_own(case, lists):
+    """That no two of the lists and dicts are one."""
+    case.assertEqual(len({id(each) for each in lists}), len(lists))
 
 
 def check_pairs(case, book, pairs):

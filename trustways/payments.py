@@ -22,7 +22,7 @@ def most(book, payer, taker, order=None):
 
 
 def first_ways(ways, amount):
-    """The ways up to the amount, the last of them cut to what is still to be paid."""
+    """The ways (or turns) up to the amount, the last of them cut to what is still left of it."""
     told = []
     rest = amount
     for chain, carried in ways:
