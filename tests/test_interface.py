@@ -63,6 +63,20 @@ ARGUMENTS = {
         "Turn": ["ring", "amount"],
         "Leave": ["house"],
     },
+    "trustways.histories": {
+        "run": ["book", "deeds", "order"],
+    },
+    "trustways.tally": {
+        "all_standings": ["book"],
+    },
+    "trustways.texts": {
+        "read": ["row"],
+        "written": ["book"],
+        "come_up": ["rows"],
+    },
+    "trustways.desk": {
+        "Desk": [],
+    },
 }
 
 # The methods of each class that has some, with their arguments behind the object itself.
@@ -74,6 +88,9 @@ METHODS = {
         "Pay": {"acted": ["book", "order"], "row": []},
         "Turn": {"acted": ["book", "order"], "row": []},
         "Leave": {"acted": ["book", "order"], "row": []},
+    },
+    "trustways.desk": {
+        "Desk": {"say": ["row"]},
     },
 }
 
